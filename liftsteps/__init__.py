@@ -1,0 +1,1 @@
+"""Liftsteps: chains of rounded steps between integer channels, for all integers."""

@@ -1,0 +1,89 @@
+"""The form of the package: its files, their size and signs, and where the interface stands."""
+
+import ast
+import os
+import unittest
+
+ROOT = os.path.dirname(os.path.dirname(os.path.abspath(__file__)))
+PACKAGE = os.path.join(ROOT, "liftsteps")
+LIBRARY = {"heapq", "math", "itertools", "collections"}
+# File, class, and what stands in the body of the class itself.
+METHODS = [
+    ("matrices.py", "Matrix", {
+        "__init__": ["self", "rows", "bottom"], "rows": ["self"], "bottom": ["self"], "__len__": ["self"],
+        "__eq__": ["self", "other"], "after": ["self", "inner"], "image": ["self", "vector"],
+        "determinant": ["self"], "inverse": ["self"],
+    }),
+    ("chains.py", "Chain", {
+        "__init__": ["self", "channels", "steps"], "channels": ["self"], "steps": ["self"], "__len__": ["self"],
+        "__eq__": ["self", "other"], "at": ["self", "vector"], "path": ["self", "vector"], "inverse": ["self"],
+        "followed_by": ["self", "other"], "grid": ["self"],
+    }),
+]
+ERRORS = [
+    "LiftError", "InvalidMatrix", "InvalidChain", "InvalidBox", "InvalidChannel", "InvalidNumber", "InvalidVector",
+    "OtherChannels", "NotTwo", "NotTurning", "Singular", "NothingToUndo", "Unreadable",
+]
+
+
+def files():
+    return sorted(name for name in os.listdir(PACKAGE) if name != "__pycache__")
+
+
+def text_of(name):
+    with open(os.path.join(PACKAGE, name), encoding="utf-8") as source:
+        return source.read()
+
+
+def tree_of(name):
+    return ast.parse(text_of(name))
+
+
+class FormTest(unittest.TestCase):
+
+    def test_only_plain_files(self):
+        self.assertIn("__init__.py", files())
+        for name in files():
+            self.assertRegex(name, r"^[a-z0-9_]+\.py$")
+
+    def test_size_and_signs(self):
+        for name in files():
+            lines = text_of(name).split("\n")
+            self.assertLessEqual(len(lines), 399, name)
+            for line in lines:
+                self.assertLessEqual(len(line), 120, name)
+                self.assertTrue(all(" " <= sign <= "~" for sign in line), (name, line))
+
+    def test_small_functions_without_floats(self):
+        for name in files():
+            for node in ast.walk(tree_of(name)):
+                if isinstance(node, ast.FunctionDef):
+                    self.assertLessEqual(node.end_lineno - node.lineno + 1, 40, (name, node.name))
+                self.assertNotIsInstance(node, (ast.Div, ast.Global, ast.AsyncFunctionDef))
+                if isinstance(node, ast.Constant):
+                    self.assertNotIsInstance(node.value, float)
+
+    def test_imports(self):
+        for name in files():
+            for node in ast.walk(tree_of(name)):
+                self.assertNotIsInstance(node, ast.Import, name)
+                if isinstance(node, ast.ImportFrom):
+                    self.assertEqual(node.level, 0)
+                    self.assertTrue(node.module in LIBRARY or node.module.startswith("liftsteps."), node.module)
+
+    def test_classes_stand_where_the_interface_lists_them(self):
+        found = [node.name for node in tree_of("errors.py").body if isinstance(node, ast.ClassDef)]
+        self.assertEqual(sorted(found), sorted(ERRORS))
+        for name, title, methods in METHODS:
+            bodies = [node.body for node in tree_of(name).body if isinstance(node, ast.ClassDef) and node.name == title]
+            self.assertEqual(len(bodies), 1)
+            told = {
+                node.name: [one.arg for one in node.args.args]
+                for node in bodies[0] if isinstance(node, ast.FunctionDef)
+            }
+            for method, names in methods.items():
+                self.assertEqual(told.get(method), names, (title, method))
+
+
+if __name__ == "__main__":
+    unittest.main()
