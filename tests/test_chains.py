@@ -1,6 +1,5 @@
 """Points 2, 4 and 8 and the interface of liftsteps/chains.py."""
 
-import random
 import unittest
 from fractions import Fraction
 from itertools import product
@@ -8,9 +7,8 @@ from math import floor, lcm
 
 from liftsteps.chains import Chain
 from liftsteps.errors import InvalidChain, LiftError, OtherChannels
+from tests.plain import FAR, PAIR, plainly, samples, told
 
-FAR = 10 ** 31
-PAIR = [("lift", 0, (0, -1), 0, 1), ("lift", 1, (1, 0), 0, 2)]
 GOOD = {
     2: [("lift", 0, (0, -6), 20, 6), ("lift", 1, (5, 0), -20, 1), ("swap", 0, 1), ("turn", 0), ("turn", 1)],
     3: [
@@ -68,26 +66,6 @@ BAD = {
 }
 
 
-def random_step(source, channels, divisors):
-    word = source.choice(["lift", "lift", "lift", "swap", "turn"])
-    if word == "swap":
-        return ("swap", *sorted(source.sample(range(channels), 2)))
-    channel = source.randrange(channels)
-    if word == "turn":
-        return ("turn", channel)
-    weights = tuple(0 if k == channel else source.randint(-6, 6) for k in range(channels))
-    return ("lift", channel, weights, source.randint(-20, 20), source.choice(divisors))
-
-
-def samples(each=12, divisors=(1, 2, 3, 6)):
-    """Return channels and steps, none to six, the same in every run."""
-    source = random.Random(5)
-    return [
-        (channels, [random_step(source, channels, divisors) for _ in range(many)])
-        for channels in (2, 3) for many in range(7) for _ in range(each)
-    ]
-
-
 def vectors(channels):
     near = list(product((-7, -2, -1, 0, 1, 3), repeat=channels))[::5]
     far = [(FAR, -FAR, 3), (-FAR - 1, FAR - 1, -FAR), (10 ** 300, 7, -10 ** 299), (0, -FAR, -1)]
@@ -112,10 +90,6 @@ def rows_of(steps, vector):
     for step in steps:
         rows.append(stepped(step, rows[-1]))
     return rows
-
-
-def told(chain):
-    return (chain.channels, chain.steps)
 
 
 class ConstructionTest(unittest.TestCase):
@@ -401,19 +375,6 @@ class AlikeTest(unittest.TestCase):
             self.assertEqual(alike, all(first.at(vector) == second.at(vector) for vector in near))
             answers.add((alike, first == second))
         self.assertEqual(answers, {(True, True), (True, False), (False, False)})
-
-
-def plainly(steps, vector):
-    """What the linear part of steps makes of a vector: no rounding, no numbers more."""
-    row = [Fraction(entry) for entry in vector]
-    for step in steps:
-        if step[0] == "lift":
-            row[step[1]] += sum(a * b for a, b in zip(step[2], row)) / step[4]
-        elif step[0] == "swap":
-            row[step[1]], row[step[2]] = row[step[2]], row[step[1]]
-        else:
-            row[step[1]] = -row[step[1]]
-    return row
 
 
 class ExampleTest(unittest.TestCase):

@@ -20,6 +20,21 @@ METHODS = [
         "followed_by": ["self", "other"], "grid": ["self"],
     }),
 ]
+# File, and the functions that are defined in it with these parameters.
+FUNCTIONS = {
+    "maps.py": {
+        "linear_part": ["chain"], "periods": ["chain"], "table": ["chain"], "residue": ["chain", "vector"],
+    },
+    "alike.py": {"parting_vector": ["first", "second"], "are_alike": ["first", "second"]},
+    "simpler.py": {
+        "may_exchange": ["chain", "number"], "may_leave": ["chain", "number"], "fewest_steps": ["chain"],
+        "rounded": ["chain", "number", "way"],
+    },
+    "ranges.py": {
+        "ranges": ["chain", "box"], "ends": ["chain", "box", "channel"],
+        "first_outside": ["chain", "box", "low", "high"],
+    },
+}
 ERRORS = [
     "LiftError", "InvalidMatrix", "InvalidChain", "InvalidBox", "InvalidChannel", "InvalidNumber", "InvalidVector",
     "OtherChannels", "NotTwo", "NotTurning", "Singular", "NothingToUndo", "Unreadable",
@@ -37,6 +52,11 @@ def text_of(name):
 
 def tree_of(name):
     return ast.parse(text_of(name))
+
+
+def parameters(body):
+    """Return the names of the parameters of each function that is defined in a body."""
+    return {node.name: [one.arg for one in node.args.args] for node in body if isinstance(node, ast.FunctionDef)}
 
 
 class FormTest(unittest.TestCase):
@@ -77,12 +97,15 @@ class FormTest(unittest.TestCase):
         for name, title, methods in METHODS:
             bodies = [node.body for node in tree_of(name).body if isinstance(node, ast.ClassDef) and node.name == title]
             self.assertEqual(len(bodies), 1)
-            told = {
-                node.name: [one.arg for one in node.args.args]
-                for node in bodies[0] if isinstance(node, ast.FunctionDef)
-            }
+            found = parameters(bodies[0])
             for method, names in methods.items():
-                self.assertEqual(told.get(method), names, (title, method))
+                self.assertEqual(found.get(method), names, (title, method))
+
+    def test_functions_stand_where_the_interface_lists_them(self):
+        for name, functions in FUNCTIONS.items():
+            found = parameters(tree_of(name).body)
+            for function, names in functions.items():
+                self.assertEqual(found.get(function), names, (name, function))
 
 
 if __name__ == "__main__":
