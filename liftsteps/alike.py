@@ -1,36 +1,35 @@
 """Whether two chains do the same, and the least vector that parts them."""
 
-from math import lcm
-
 from liftsteps.boxes import vectors_of
+from liftsteps.columns import columns_behind, columns_of
+from liftsteps.cosets import cells_of, sure_periods, unit_basis
 from liftsteps.errors import OtherChannels
 from liftsteps.maps import linear_part
 
 
 def parting_vector(first, second):
     """Return the vector nearest to zero of which two chains make unlike vectors, None if there is none."""
-    if second.channels != first.channels:
-        raise OtherChannels(second.channels)
-    for size in range(_reach(first, second) + 1):
+    if are_alike(first, second):
+        return None
+    # Some vector parts them now, so that one of the shells has it.
+    size = 0
+    while True:
         for vector in _shell(first.channels, size):
             if first.at(vector) != second.at(vector):
                 return vector
-    return None
+        size = size + 1
 
 
 def are_alike(first, second):
     """Tell whether two chains do the same to all vectors."""
-    return parting_vector(first, second) is None
-
-
-def _reach(first, second):
-    """Return an absolute entry within which some vector parts two chains that are not alike."""
-    grid, other = first.grid(), second.grid()
-    reach = (grid + other) // 2
+    if second.channels != first.channels:
+        raise OtherChannels(second.channels)
     if linear_part(first) != linear_part(second):
-        return reach
-    # With equal linear parts the difference itself repeats behind each common multiple.
-    return min(reach, lcm(grid, other) // 2)
+        return False
+    # With equal linear parts both go on alike behind the sure periods that they share.
+    shared = sure_periods(second.steps, sure_periods(first.steps, unit_basis(first.channels)))
+    columns = columns_of(cells_of(shared))
+    return columns_behind(first.steps, columns) == columns_behind(second.steps, columns)
 
 
 def _shell(channels, size):

@@ -1,6 +1,6 @@
-"""Boxes of vectors: their check, the check of a channel, and the walk of a small box."""
+"""Boxes of vectors: their check, those of channels, and the walk of a small box."""
 
-from liftsteps.errors import InvalidBox, InvalidChannel
+from liftsteps.errors import InvalidBox, InvalidChannel, NotTwo
 
 
 def check_box(channels, box):
@@ -19,9 +19,20 @@ def check_channel(channels, channel):
         raise InvalidChannel(channel)
 
 
+def check_two(channels):
+    """Raise NotTwo if a chain has another number of channels than two."""
+    if channels != 2:
+        raise NotTwo(channels)
+
+
 def vectors_of(box):
     """Return the list of all vectors of a small box, in ascending order."""
+    return crossed([list(range(low, high + 1)) for low, high in box])
+
+
+def crossed(axes):
+    """Return the list of all vectors with an entry of each axis, in the order of the axes."""
     vectors = [()]
-    for low, high in box:
-        vectors = [vector + (entry,) for vector in vectors for entry in range(low, high + 1)]
+    for axis in axes:
+        vectors = [vector + (entry,) for vector in vectors for entry in axis]
     return vectors

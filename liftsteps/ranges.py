@@ -1,23 +1,29 @@
 """The exact ranges of the channels over boxes of any size, and the vectors that reach them."""
 
-from liftsteps.boxes import check_box, check_channel, vectors_of
-from liftsteps.chains import Chain
+from liftsteps.boxes import check_box, check_channel, crossed
+from liftsteps.columns import columns_behind, columns_of, step_columns
+from liftsteps.cosets import spans_of, sure_periods, unit_basis
 from liftsteps.errors import InvalidNumber
-from liftsteps.maps import linear_part
 
 
 def ranges(chain, box):
     """Return, for each row, the list of the least and the greatest value of each channel over a box."""
     check_box(chain.channels, box)
-    return [_row_ranges(part, box) for part in _parts(chain)]
+    columns = columns_of(_edge_vectors(chain, box))
+    found = [_ends_of(columns)]
+    for step in chain.steps:
+        columns = step_columns(step, columns)
+        found.append(_ends_of(columns))
+    return found
 
 
 def ends(chain, box, channel):
     """Return the first vectors of a box with the least and with the greatest value of a channel."""
     check_box(chain.channels, box)
     check_channel(chain.channels, channel)
-    weights = linear_part(chain).rows[channel]
-    return (_first_least(chain, box, channel, weights), _first_greatest(chain, box, channel, weights))
+    vectors = _edge_vectors(chain, box)
+    values = columns_behind(chain.steps, columns_of(vectors))[channel]
+    return (vectors[values.index(min(values))], vectors[values.index(max(values))])
 
 
 def first_outside(chain, box, low, high):
@@ -25,50 +31,30 @@ def first_outside(chain, box, low, high):
     check_box(chain.channels, box)
     if high < low:
         raise InvalidNumber(high)
-    for row, part in enumerate(_parts(chain)):
-        for channel, (least, greatest) in enumerate(_row_ranges(part, box)):
+    for row, pairs in enumerate(ranges(chain, box)):
+        for channel, (least, greatest) in enumerate(pairs):
             if least < low or greatest > high:
                 return (row, channel)
     return None
 
 
-def _parts(chain):
-    """Return the chains that lead to each row: those of the first steps, none to all of them."""
-    steps = chain.steps
-    return [Chain(chain.channels, steps[:many]) for many in range(len(steps) + 1)]
+def _ends_of(columns):
+    return [(min(column), max(column)) for column in columns]
 
 
-def _row_ranges(chain, box):
-    """Return the tuples of the least and the greatest value of each channel of the last row."""
-    found = []
-    for channel, weights in enumerate(linear_part(chain).rows):
-        least = chain.at(_first_least(chain, box, channel, weights))
-        greatest = chain.at(_first_greatest(chain, box, channel, weights))
-        found.append((least[channel], greatest[channel]))
-    return found
+def _edge_vectors(chain, box):
+    """Return, in ascending order, vectors of a box that have the first ones with the ends of all channels in all rows.
 
-
-def _first_least(chain, box, channel, weights):
-    corner = _corner(box, chain.grid(), weights)
-    return min(vectors_of(corner), key=lambda vector: chain.at(vector)[channel])
-
-
-def _first_greatest(chain, box, channel, weights):
-    corner = _corner(box, chain.grid(), [-weight for weight in weights])
-    return max(vectors_of(corner), key=lambda vector: chain.at(vector)[channel])
-
-
-def _corner(box, grid, weights):
-    """Return the corner of a box that has the first vector with the least value of a channel.
-
-    By one grid along an axis the channel grows by a multiple of the weight there. So of
-    the vectors that differ by grids the lowest one has the least value, or for a weight
-    below 0 the highest one; and with a weight of 0 all have it, and the lowest is the first.
+    By the span of an axis each channel grows by the same from all vectors. So of the vectors
+    that differ by spans along it the least value is at one of both ends of the box, and the
+    greatest one at the other; or they are all the same, and the first vector is at the low end.
     """
-    corner = []
-    for (low, high), weight in zip(box, weights):
-        if weight < 0:
-            corner.append((max(low, high - grid + 1), high))
-        else:
-            corner.append((low, min(high, low + grid - 1)))
-    return corner
+    spans = spans_of(sure_periods(chain.steps, unit_basis(chain.channels)))
+    return crossed([_edge(low, high, span) for (low, high), span in zip(box, spans)])
+
+
+def _edge(low, high, span):
+    """Return, in ascending order, the integers of an axis that are less than a span from one of its ends."""
+    if high - low < 2 * span:
+        return list(range(low, high + 1))
+    return list(range(low, low + span)) + list(range(high - span + 1, high + 1))

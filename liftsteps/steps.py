@@ -1,4 +1,4 @@
-"""Single steps of a chain: which tuples are steps, what they do, what takes them back."""
+"""Single steps of a chain: which tuples are steps, what they do, with and without rounding, what takes them back."""
 
 from liftsteps.integers import dot
 
@@ -42,6 +42,14 @@ def apply_step(step, vector):
     else:
         row[step[1]] = -row[step[1]]
     return tuple(row)
+
+
+def plain_step(step):
+    """Return a step without its number more: what it does where its division leaves no remainder."""
+    if step[0] != "lift":
+        return step
+    word, channel, weights, _, divisor = step
+    return (word, channel, weights, 0, divisor)
 
 
 def inverse_step(step):

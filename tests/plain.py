@@ -55,12 +55,30 @@ def bounded(each, seed=7, longest=6, most=None):
     ]
 
 
+def of_two(each, seed=7, longest=6):
+    """Return the steps of the chains of two channels among these."""
+    return [steps for channels, steps in bounded(each, seed, longest) if channels == 2]
+
+
 def done(steps, vector):
     """What comes of a vector."""
     row = list(vector)
     for step in steps:
         if step[0] == "lift":
             row[step[1]] += (sum(a * b for a, b in zip(step[2], row)) + step[3]) // step[4]
+        elif step[0] == "swap":
+            row[step[1]], row[step[2]] = row[step[2]], row[step[1]]
+        else:
+            row[step[1]] = -row[step[1]]
+    return tuple(row)
+
+
+def undone(steps, vector):
+    """What became a vector by steps, taken back one by one."""
+    row = list(vector)
+    for step in reversed(steps):
+        if step[0] == "lift":
+            row[step[1]] -= (sum(a * b for a, b in zip(step[2], row)) + step[3]) // step[4]
         elif step[0] == "swap":
             row[step[1]], row[step[2]] = row[step[2]], row[step[1]]
         else:
@@ -111,6 +129,29 @@ def walk(box):
     return list(product(*(range(low, high + 1) for low, high in box)))
 
 
+def small_boxes(source, channels):
+    """Boxes to walk: of one vector, thin ones, and ones longer than two grids."""
+    corner = [source.randint(-9, 9) for _ in range(channels)]
+    longest = 27 if channels == 2 else 8
+    boxes = [[(low, low) for low in corner]]
+    for most in (2, longest // 2, longest):
+        boxes.append([(low, low + source.randint(0, most)) for low in corner])
+    return boxes
+
+
+def size_of(box):
+    total = 1
+    for low, high in box:
+        total *= high - low + 1
+    return total
+
+
+def halves_of(box, place, cut):
+    """Both parts of a box that is cut behind an entry."""
+    low, high = box[place]
+    return [box[:place] + [part] + box[place + 1:] for part in ((low, cut), (cut + 1, high))]
+
+
 def is_period(channels, steps, vector):
     """Whether F grows by the same along a vector, from all vectors of a grid."""
     cells = walk([(0, plain_grid(steps) - 1)] * channels)
@@ -141,7 +182,27 @@ def told(chain):
     return (chain.channels, chain.steps)
 
 
-def check_error(test, kind, value, call, *given, **named):
+def bad_boxes(channels):
+    """Boxes that are none of a chain, and the values of their errors."""
+    wrong = {
+        2: [
+            ([], None), ([(0, 1)], None), ([(0, 1)] * 3, None), ([(1, 0)], None), ([(1, 0)] * 3, None),
+            ([(1, 0), (0, 1)], 0), ([(0, 1), (1, 0)], 1), ([(1, 0), (1, 0)], 0), ([(0, 0), (FAR, FAR - 1)], 1),
+            ([(FAR, -FAR), (0, 0)], 0), ([(-1, -2), (3, 3)], 0),
+        ],
+        3: [
+            ([(0, 1)] * 2, None), ([(0, 1)] * 4, None), ([], None), ([(0, 0), (0, 0), (0, -1)], 2),
+            ([(0, 0), (5, 4), (0, -1)], 1), ([(1, 0), (5, 4), (0, 0)], 0),
+        ],
+    }
+    return wrong[channels]
+
+
+def bad_channels(channels):
+    return [channels, channels + 1, -1, -2, -channels, FAR, -FAR]
+
+
+def check_error(test, kind, value, call, /, *given, **named):
     """Ask twice, so that an error changes nothing: the very class, and its value."""
     for _ in range(2):
         with test.assertRaises(kind) as caught:

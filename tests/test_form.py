@@ -34,6 +34,16 @@ FUNCTIONS = {
         "ranges": ["chain", "box"], "ends": ["chain", "box", "channel"],
         "first_outside": ["chain", "box", "low", "high"],
     },
+    "distances.py": {"distances": ["chain"], "loss": ["chain", "channel", "unit"]},
+    "totals.py": {
+        "sum_of": ["chain", "box", "channel"], "count_at_most": ["chain", "box", "channel", "value"],
+        "nth_value": ["chain", "box", "channel", "number"],
+    },
+    "meetings.py": {"count_agreeing": ["first", "second", "box"], "count_kept": ["chain", "box"]},
+    "rounds.py": {
+        "is_turning": ["chain"], "after_rounds": ["chain", "vector", "times"], "round_of": ["chain", "vector"],
+        "whole_order": ["chain"], "count_back": ["chain", "box"],
+    },
 }
 ERRORS = [
     "LiftError", "InvalidMatrix", "InvalidChain", "InvalidBox", "InvalidChannel", "InvalidNumber", "InvalidVector",

@@ -7,19 +7,11 @@ from itertools import product
 from liftsteps.chains import Chain
 from liftsteps.errors import InvalidBox, InvalidChannel, InvalidNumber
 from liftsteps.ranges import ends, first_outside, ranges
-from tests.plain import FAR, PAIR, bounded, check_error, done, plain_grid, told, walk
+from tests.plain import (
+    FAR, PAIR, bad_boxes, bad_channels, bounded, check_error, done, plain_grid, small_boxes, told, walk,
+)
 
 SIXTH = [("lift", 1, (1, 0), 0, 6)]
-
-
-def small_boxes(source, channels):
-    """Return boxes to walk: of one vector, thin ones, and ones longer than two grids."""
-    corner = [source.randint(-9, 9) for _ in range(channels)]
-    longest = 27 if channels == 2 else 8
-    boxes = [[(low, low) for low in corner]]
-    for most in (2, longest // 2, longest):
-        boxes.append([(low, low + source.randint(0, most)) for low in corner])
-    return boxes
 
 
 def far_boxes(channels):
@@ -273,21 +265,10 @@ class ErrorTest(unittest.TestCase):
         ]
 
     def test_boxes(self):
-        wrong = {
-            2: [
-                ([], None), ([(0, 1)], None), ([(0, 1)] * 3, None), ([(1, 0)], None), ([(1, 0)] * 3, None),
-                ([(1, 0), (0, 1)], 0), ([(0, 1), (1, 0)], 1), ([(1, 0), (1, 0)], 0), ([(0, 0), (FAR, FAR - 1)], 1),
-                ([(FAR, -FAR), (0, 0)], 0), ([(-1, -2), (3, 3)], 0),
-            ],
-            3: [
-                ([(0, 1)] * 2, None), ([(0, 1)] * 4, None), ([], None), ([(0, 0), (0, 0), (0, -1)], 2),
-                ([(0, 0), (5, 4), (0, -1)], 1), ([(1, 0), (5, 4), (0, 0)], 0),
-            ],
-        }
-        for channels, boxes in wrong.items():
+        for channels in (2, 3):
             for steps in ([], [("turn", 0), ("lift", 1, (1, 0, 0)[:channels], 0, 3)]):
                 chain = Chain(channels, steps)
-                for box, value in boxes:
+                for box, value in bad_boxes(channels):
                     before = list(box)
                     for call in self.calls(chain):
                         check_error(self, InvalidBox, value, call, box)
@@ -296,7 +277,7 @@ class ErrorTest(unittest.TestCase):
     def test_channels(self):
         for channels in (2, 3):
             chain, box = Chain(channels, [("swap", 0, 1)]), [(0, 4)] * channels
-            for channel in (channels, channels + 1, -1, -2, -channels, FAR, -FAR):
+            for channel in bad_channels(channels):
                 check_error(self, InvalidChannel, channel, ends, chain, box, channel)
                 check_error(self, InvalidChannel, channel, ends, channel=channel, box=box, chain=chain)
                 self.assertEqual(ends(chain, box, 0), ((0,) * channels, (0, 4, 0)[:channels]))
