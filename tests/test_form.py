@@ -19,6 +19,11 @@ METHODS = [
         "__eq__": ["self", "other"], "at": ["self", "vector"], "path": ["self", "vector"], "inverse": ["self"],
         "followed_by": ["self", "other"], "grid": ["self"],
     }),
+    ("sheets.py", "Sheet", {
+        "__init__": ["self", "chain"], "chain": ["self"], "__eq__": ["self", "other"], "walk": ["self", "vector"],
+        "add": ["self", "step"], "put": ["self", "number", "step"], "cut": ["self", "number"], "undo": ["self"],
+        "of_text": ["cls", "text"],
+    }),
 ]
 # File, and the functions that are defined in it with these parameters.
 FUNCTIONS = {
@@ -44,6 +49,12 @@ FUNCTIONS = {
         "is_turning": ["chain"], "after_rounds": ["chain", "vector", "times"], "round_of": ["chain", "vector"],
         "whole_order": ["chain"], "count_back": ["chain", "box"],
     },
+    "wrapped.py": {
+        "wrapped_after": ["chain", "width", "vector", "times"], "cycle_length": ["chain", "width", "vector"],
+        "cycles": ["chain", "width"], "wrapped_order": ["chain", "width"], "is_harmless": ["chain", "width", "box"],
+    },
+    "texts.py": {"show_step": ["step"], "show_chain": ["chain"], "show_vector": ["vector"]},
+    "readings.py": {"read_step": ["channels", "text"], "read_chain": ["text"], "read_vector": ["text"]},
 }
 ERRORS = [
     "LiftError", "InvalidMatrix", "InvalidChain", "InvalidBox", "InvalidChannel", "InvalidNumber", "InvalidVector",
