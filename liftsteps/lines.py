@@ -10,11 +10,9 @@ def pairs_at_most(lengths, slopes, limit):
     """
     many, slope, limit = _upwards(lengths[0], slopes[0], limit)
     others, other, limit = _upwards(lengths[1], slopes[1], limit)
-    if other == 0:
-        many, slope, others, other = others, other, many, slope
     if slope == 0:
         return many * _within(limit // other + 1, others)
-    # At first all of the others fit, then fewer and fewer, at last none.
+    # At first all of the others fit, then fewer and fewer (unless the other slope is 0), at last none.
     full = _within((limit - other * (others - 1)) // slope + 1, many)
     some = _within(limit // slope + 1, many)
     between = some - full

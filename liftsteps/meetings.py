@@ -30,7 +30,6 @@ def count_agreeing(first, second, box):
 
 def count_kept(chain, box):
     """Return the number of the vectors of a box that a chain does not change."""
-    check_two(chain.channels)
     return count_agreeing(chain, Chain(2, []), box)
 
 

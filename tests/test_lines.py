@@ -48,10 +48,18 @@ class CosetsTest(unittest.TestCase):
                 self.assertTrue(is_period(channels, steps, vector))
             self.assertLessEqual(len(cells_of(basis)), plain_grid(steps))
 
+    def bases(self, source):
+        """Those of chains, and any others, also with entries that are not small."""
+        for channels, steps in bounded(4, 204):
+            yield channels, multiples_at(sure_periods(steps, unit_basis(channels)), 0, source.randint(1, 6))
+            yield channels, [
+                (0,) * k + (source.randint(1, 4),) + tuple(source.randint(-5, 5) for _ in range(k + 1, channels))
+                for k in range(channels)
+            ]
+
     def test_cells(self):
         source = random.Random(204)
-        for channels, steps in bounded(4, 204):
-            basis = multiples_at(sure_periods(steps, unit_basis(channels)), 0, source.randint(1, 6))
+        for channels, basis in self.bases(source):
             cells, spans = cells_of(basis), spans_of(basis)
             self.assertEqual([cell_of(basis, cell) for cell in cells], cells)
             for place, unit in enumerate(unit_basis(channels)):

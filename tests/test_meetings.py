@@ -129,6 +129,19 @@ class CountAgreeingTest(unittest.TestCase):
                     self.assertGreaterEqual(count_agreeing(Chain(2, others), Chain(2, steps), wide), expected)
         self.assertGreater(met, 40)
 
+    def test_other_divisors(self):
+        # The linear parts have other bottoms, of which none is a multiple of the other one.
+        for divisor, other in ((2, 3), (3, 4), (4, 6), (6, 5), (5, 2)):
+            for weights in ((1, 0), (5, 0), (-1, 0)):
+                steps, others = [("lift", 1, weights, 0, divisor)], [("lift", 1, weights, 1, other), ("turn", 0)]
+                for second in (others[:1], others):
+                    for box in ([(-30, 30), (-3, 3)], [(2, 30), (-9, 0)]):
+                        expected = sum(done(steps, v) == done(second, v) for v in walk(box))
+                        self.assertEqual(count_agreeing(Chain(2, steps), Chain(2, second), box), expected)
+                    box = [(-BIG, BIG), (-BIG, -BIG + 2)]
+                    found = count_agreeing(Chain(2, steps), Chain(2, second), box)
+                    self.assertEqual(found, plain_thin(steps, second, box))
+
     def test_far_thin_boxes(self):
         met = {0: 0, 1: 0, 2: 0}
         for steps, others in pairs(8, 132):
