@@ -36,7 +36,7 @@ CHAINS = [
     ]),
 ]
 # What is asked in a start of its own. It answers with the seconds of computing that both lists took, and those
-# of ten walks of all vectors of a grid: what each answer would need at least if it were found by such a walk.
+# of forty walks of all vectors of a grid: what each answer would need at least if it were found by such a walk.
 START = """
 import time
 from itertools import product
@@ -49,7 +49,7 @@ residues = [residue(chain, vector) for vector in vectors]
 times.append(time.process_time())
 found = [ranges(chain, box) for box in boxes]
 times.append(time.process_time())
-for _ in range(10):
+for _ in range(40):
     for vector in product(range(chain.grid()), repeat={channels}):
         chain.at(vector)
 times.append(time.process_time())
@@ -124,8 +124,8 @@ class ManyAnswersTest(unittest.TestCase):
             self.assertEqual(found, [plain_ranges(steps, box) for box in boxes])
             self.assertLess(first + second, LIMIT)
             # A walk for each residue, or for each row of each box, would take longer.
-            self.assertLess(first, len(vectors) * walks / 10)
-            self.assertLess(second, len(boxes) * (len(steps) + 1) * walks / 10)
+            self.assertLess(first, len(vectors) * walks / 40)
+            self.assertLess(second, len(boxes) * (len(steps) + 1) * walks / 40)
 
     def test_periods_tables_and_ends(self):
         source = random.Random(302)
